@@ -132,6 +132,14 @@ func TestCheck(t *testing.T) {
 	}
 }
 
+// TestGreat: P15.2, of a net whose rings tell one arc again and again.
+func TestGreat(t *testing.T) {
+	n := Net{[]arcs.Arc{arc(0, 1, append(make([]api.Point, 60000), p(0, 0))...)}, [][][]int{{make([]int, 60000)}}}
+	if err := Check(n); err != api.ErrMany {
+		t.Error(err)
+	}
+}
+
 // TestNear: P15.3.
 func TestNear(t *testing.T) {
 	_, n := two()
