@@ -51,6 +51,7 @@ func TestRead(t *testing.T) {
 		{[]byte{9, 8, 7, 6, 5, 4, 3, 2, 1, 0}, Field{1, Eight, 0x0102030405060708, nil}, 9, api.OK},
 		{[]byte{13, 4, 3, 2, 1}, Field{1, Four, 0x01020304, nil}, 5, api.OK},
 		{append([]byte{8}, long...), Field{1, Number, math.MaxUint64, nil}, 11, api.OK},
+		{append(varint.Bytes(1<<32-8), 7), Field{1<<29 - 1, Number, 7, nil}, 6, api.OK},
 		{nil, Field{}, 0, api.ErrEnd}, {[]byte{128, 0}, Field{}, 0, api.ErrForm}, {bytes.Repeat([]byte{255}, 12), Field{}, 0, api.ErrRange},
 		{[]byte{0}, Field{}, 0, api.ErrRange}, {[]byte{3}, Field{}, 0, api.ErrRange}, {varint.Bytes(1 << 32), Field{}, 0, api.ErrRange}, {long, Field{}, 0, api.ErrRange},
 		{[]byte{11}, Field{}, 0, api.ErrKind}, {[]byte{12}, Field{}, 0, api.ErrKind}, {[]byte{14}, Field{}, 0, api.ErrKind}, {[]byte{15}, Field{}, 0, api.ErrKind},

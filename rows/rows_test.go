@@ -59,6 +59,9 @@ func TestExample(t *testing.T) {
 	if got, ok := x.Box(2); got != box(5, 0, 6, 1) || !ok {
 		t.Error(got, ok)
 	}
+	if got, ok := x.Box(0); got != box(0, 0, 2, 2) || !ok {
+		t.Error(got, ok)
+	}
 	for _, i := range []int{-1, 3, math.MinInt, math.MaxInt} {
 		if got, ok := x.Box(i); got != (Box{}) || ok {
 			t.Error(i)
