@@ -241,6 +241,9 @@ func TestLocate(t *testing.T) {
 			t.Error(x, got)
 		}
 	}
+	if None != -1 || Border != -2 {
+		t.Error("numbers")
+	}
 	r := sample.New(18)
 	for range 60 {
 		l := sample.Of(r, sample.Shape{Size: 4, Count: 3, Step: 5, Jitter: 1})

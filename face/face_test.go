@@ -90,6 +90,7 @@ func TestNest(t *testing.T) {
 		{of(box(0, 0, 9, 9), hole(20, 20, 24, 24)), nil, false}, {of(hole(2, 2, 4, 4)), nil, false},
 		{of(box(0, 0, 9, 9), []api.Point{p(1, 1), p(2, 2), p(3, 3)}), nil, false}, {of(nil), nil, false}, {of(box(0, 0, 9, 9), box(0, 0, api.Bound+1, 9)), nil, false},
 		{of(box(0, 0, 9, 9), box(3, 1, 3, 9)), nil, false},
+		{of(box(0, 0, 20, 20), hole(4, 2, 8, 8), []api.Point{p(2, 4), p(6, 4), p(6, 3)}), []int{-1, 0, 0}, true}, // the first hole has the middle of the second one's first edge: only exteriors must tell
 		{of(box(0, 0, 9, 9), box(3, 0, 20, 5), hole(1, 2, 5, 4)), []int{-1, -1, 0}, true},
 		{of(box(0, 0, 9, 9), box(3, 0, 20, 5), []api.Point{p(1, 2), p(5, 2), p(1, 1)}), nil, false}, // the second exterior has the middle of the first edge
 	} {

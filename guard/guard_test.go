@@ -34,6 +34,7 @@ func TestWhy(t *testing.T) {
 		{"no a", nil, []arcs.Arc{hill}, p(0, 1), p(2, 1), p(4, 0), Ends}, {"no b", nil, []arcs.Arc{hill}, p(0, 0), p(2, 2), p(4, 0), Ends}, {"no c", nil, []arcs.Arc{hill}, p(0, 0), p(2, 1), p(5, 0), Ends},
 		{"far a", nil, []arcs.Arc{hill, arc(far)}, far, p(2, 1), p(4, 0), Ends}, {"far b", nil, []arcs.Arc{hill, arc(far)}, p(0, 0), far, p(4, 0), Ends}, {"far c", nil, []arcs.Arc{hill, arc(far)}, p(0, 0), p(2, 1), far, Ends},
 		{"strips by X", []int{2}, []arcs.Arc{arc(p(0, 0), p(2, 1), p(4, 0), p(0, 0)), arc(p(2, 0))}, p(0, 0), p(2, 1), p(4, 0), Strip}, {"strips by Y", []int{1}, []arcs.Arc{arc(p(0, 0), p(0, 1), p(0, 2))}, p(0, 0), p(0, 1), p(0, 2), Strip}, {"on lines", []int{0, 4}, []arcs.Arc{hill}, p(0, 0), p(2, 1), p(4, 0), Free},
+		{"at the bound", nil, []arcs.Arc{arc(p(0, 0), p(api.Bound, api.Bound), p(api.Bound, 0)), arc(p(api.Bound, 5))}, p(0, 0), p(api.Bound, api.Bound), p(api.Bound, 0), Point}, {"at the other bound", nil, []arcs.Arc{arc(p(0, 0), p(-api.Bound, -api.Bound), p(-api.Bound, 0)), arc(p(-api.Bound, -5))}, p(0, 0), p(-api.Bound, -api.Bound), p(-api.Bound, 0), Point},
 		{"an edge", nil, []arcs.Arc{hill, arc(p(4, 0), p(0, 0)), arc(p(2, 0))}, p(0, 0), p(2, 1), p(4, 0), Edge}, {"not joined with b", nil, []arcs.Arc{arc(p(0, 0)), arc(p(2, 1)), arc(p(4, 0))}, p(0, 0), p(2, 1), p(4, 0), Free},
 	} {
 		g := New(x.lines, x.l...)

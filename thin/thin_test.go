@@ -38,6 +38,8 @@ func TestArcs(t *testing.T) {
 		{"a ring stays one", nil, api.MaxTol, []arcs.Arc{arc(p(0, 0), p(4, 0), p(4, 4), p(0, 4), p(0, 0))}, []arcs.Arc{arc(p(0, 0), p(4, 4), p(0, 4), p(0, 0))}, 1, api.OK},
 		{"of like ones the first", nil, 99, []arcs.Arc{arc(p(0, 0), p(0, 4), p(4, 4), p(4, 0)), arc(p(0, 0), p(4, 0))}, []arcs.Arc{arc(p(0, 0), p(4, 4), p(4, 0)), arc(p(0, 0), p(4, 0))}, 1, api.OK},
 		{"one waits till another goes", nil, 100, []arcs.Arc{arc(p(0, 0), p(4, 4), p(8, 0)), arc(p(2, -9), p(4, 1), p(6, -9), p(9, -9))}, []arcs.Arc{arc(p(0, 0), p(8, 0)), arc(p(2, -9), p(9, -9))}, 3, api.OK},
+		{"one waits, and grows too heavy", nil, 100, []arcs.Arc{arc(p(0, 0), p(5, 4), p(10, 0), p(33, -8)), arc(p(5, -60), p(5, 1), p(6, -60))}, []arcs.Arc{arc(p(0, 0), p(5, 4), p(33, -8)), arc(p(5, -60), p(6, -60))}, 2, api.OK},
+		{"one waits longer", nil, 100, []arcs.Arc{arc(p(0, 0), p(5, 4), p(10, 0)), arc(p(50, 50), p(55, 55), p(60, 51)), arc(p(5, -60), p(5, 1), p(6, -60))}, []arcs.Arc{arc(p(0, 0), p(10, 0)), arc(p(50, 50), p(60, 51)), arc(p(5, -60), p(6, -60))}, 3, api.OK},
 		{"no points", nil, 9, []arcs.Arc{arc(), arc(p(1, 1)), arc(p(1, 1), p(2, 2))}, []arcs.Arc{arc(), arc(p(1, 1)), arc(p(1, 1), p(2, 2))}, 0, api.OK},
 		{"none", nil, 9, nil, nil, 0, api.OK}, {"below", nil, -1, []arcs.Arc{row}, nil, 0, api.ErrRange}, {"above", nil, api.MaxTol + 1, []arcs.Arc{row}, nil, 0, api.ErrRange},
 	} {
@@ -108,6 +110,19 @@ func slow(lines []int, tol int, l []arcs.Arc) ([]arcs.Arc, int) {
 	}
 }
 
+// beside are rough arcs that lie close to each other, so that points stand in each other's way.
+func beside(r *sample.Row) []arcs.Arc {
+	var all []arcs.Arc
+	for k := range 2 + r.Next(4) {
+		var l []api.Point
+		for i := range 4 + r.Next(25) {
+			l = append(l, p(3*i+r.Next(3), 6*k+r.Next(10)))
+		}
+		all = append(all, arc(l...))
+	}
+	return all
+}
+
 // TestBySteps: P19.1 by its words, of coverages' arcs, and of any rows of points.
 func TestBySteps(t *testing.T) {
 	r := sample.New(25)
@@ -124,6 +139,9 @@ func TestBySteps(t *testing.T) {
 				}
 				all = append(all, arc(l...))
 			}
+		}
+		if i%4 == 1 {
+			all = beside(r)
 		}
 		lines := [][]int{nil, nil, {9, 21}, {3}}[r.Next(4)]
 		tol := []int{0, 1, 5, 40, 200, api.MaxTol}[r.Next(6)]
