@@ -139,7 +139,7 @@ func TestHead(t *testing.T) {
 		{func(h *Head) {}, api.OK}, {func(h *Head) { h.Buffer, h.Attrs = -1, make([][]table.Attr, 33) }, api.ErrRange}, {func(h *Head) { h.Buffer = 2048 }, api.ErrRange}, {func(h *Head) { h.Tol = -1 }, api.ErrRange}, {func(h *Head) { h.Tol = api.MaxTol + 1 }, api.ErrRange},
 		{func(h *Head) { h.Attrs = append(make([][]table.Attr, 32), []table.Attr{attr("9", 1)}) }, api.ErrMany}, {func(h *Head) { h.Attrs[1] = []table.Attr{attr("9", 1)}; h.Levels[0].Zoom = 9 }, api.ErrText}, {func(h *Head) { h.Attrs[0][1].Key = "a" }, api.ErrTwice},
 		{func(h *Head) { h.Levels[0] = State{Zoom: -1, Status: 9} }, api.ErrRange}, {func(h *Head) { h.Levels[2].Zoom = 5 }, api.ErrRange}, {func(h *Head) { h.Levels[1] = State{Zoom: 0, Status: 9} }, api.ErrOrder}, {func(h *Head) { h.Levels[1].Zoom = 4 }, api.ErrOrder}, {func(h *Head) { h.Levels[0].Status, h.Levels[1].Zoom = 0, 9 }, api.ErrKind}, {func(h *Head) { h.Levels[2].Status = 3 }, api.ErrKind},
-		{func(h *Head) { h.Levels[0].Net.Arcs = make([]arcs.Arc, 1) }, api.ErrForm}, {func(h *Head) { h.Levels[0].Net.Rings = make([][][]int, 2) }, api.ErrForm},
+		{func(h *Head) { h.Levels[0].Net.Arcs = make([]arcs.Arc, 1) }, api.ErrForm}, {func(h *Head) { h.Levels[0].Net.Rings = make([][][]int, 1) }, api.ErrForm},
 		{func(h *Head) { h.Levels[1].Net = net.Net{Rings: make([][][]int, 33)} }, api.ErrMany}, {func(h *Head) { h.Levels[1].Net = net.Net{Rings: [][][]int{{{1 << 20}}}} }, api.ErrRange}, {func(h *Head) { h.Levels[1].Net.Rings = h.Levels[1].Net.Rings[:1] }, api.ErrForm}, {func(h *Head) { h.Levels[2].Net = net.Net{} }, api.ErrForm},
 	} {
 		h := someHead()
@@ -172,6 +172,9 @@ func msg(n int, l ...proto.Field) proto.Field {
 	return raw(n, b...)
 }
 
+// collapsed is the field of a level that has collapsed.
+func collapsed(z uint64) proto.Field { return msg(4, num(1, z), num(2, 2)) }
+
 // TestRead: P28.4.
 func TestRead(t *testing.T) {
 	one, two := num(1, 5), num(2, 6)
@@ -184,7 +187,7 @@ func TestRead(t *testing.T) {
 		err  api.Errno
 	}{
 		{"right", []proto.Field{one, two}, api.OK}, {"levels", []proto.Field{one, two, msg(4, num(1, 0), num(2, 1), good), msg(4, num(1, 4), num(2, 2))}, api.OK}, {"faces", append([]proto.Field{one, two}, many[:32]...), api.OK},
-		{"nothing", nil, api.ErrForm}, {"one", []proto.Field{one}, api.ErrForm}, {"two alone", []proto.Field{two}, api.ErrForm}, {"turned", []proto.Field{two, one}, api.ErrForm}, {"one twice", []proto.Field{one, one, two}, api.ErrForm}, {"two twice", []proto.Field{one, two, two}, api.ErrForm}, {"bytes", []proto.Field{raw(1), two}, api.ErrForm}, {"another field", []proto.Field{one, two, num(5, 1)}, api.ErrForm}, {"a number", []proto.Field{one, two, num(3, 1)}, api.ErrForm}, {"a number", []proto.Field{num(1, 9999), two, num(4, 1)}, api.ErrForm}, {"faces behind", []proto.Field{one, two, raw(4), raw(3)}, api.ErrForm},
+		{"nothing", nil, api.ErrForm}, {"one", []proto.Field{one}, api.ErrForm}, {"two alone", []proto.Field{two}, api.ErrForm}, {"turned", []proto.Field{two, one}, api.ErrForm}, {"one twice", []proto.Field{one, one, two}, api.ErrForm}, {"one twice alone", []proto.Field{one, one}, api.ErrForm}, {"two twice alone", []proto.Field{two, two}, api.ErrForm}, {"all levels", []proto.Field{one, two, collapsed(0), collapsed(1), collapsed(2), collapsed(3), collapsed(4)}, api.OK}, {"two twice", []proto.Field{one, two, two}, api.ErrForm}, {"bytes", []proto.Field{raw(1), two}, api.ErrForm}, {"another field", []proto.Field{one, two, num(5, 1)}, api.ErrForm}, {"a number", []proto.Field{one, two, num(3, 1)}, api.ErrForm}, {"a number", []proto.Field{num(1, 9999), two, num(4, 1)}, api.ErrForm}, {"faces behind", []proto.Field{one, two, raw(4), raw(3)}, api.ErrForm},
 		{"a buffer", append([]proto.Field{num(1, 2048), two}, many...), api.ErrRange}, {"a great buffer", []proto.Field{num(1, 1<<63), two}, api.ErrRange}, {"a tolerance", append([]proto.Field{one, num(2, api.MaxTol+1)}, many...), api.ErrRange}, {"many faces", append([]proto.Field{one, two, raw(3, 0)}, many...), api.ErrMany},
 		{"a face", []proto.Field{one, two, raw(3, 0)}, api.ErrRange}, {"a key alone", []proto.Field{one, two, msg(3, key)}, api.ErrForm}, {"turned", []proto.Field{one, two, msg(3, val, key)}, api.ErrForm}, {"a number", []proto.Field{one, two, msg(3, num(1, 1), val)}, api.ErrForm}, {"a number", []proto.Field{one, two, msg(3, raw(1, '9'), num(2, 1))}, api.ErrForm}, {"a third", []proto.Field{one, two, msg(3, key, raw(2), key)}, api.ErrForm}, {"another field", []proto.Field{one, two, msg(3, key, val, num(7, 1), num(8, 1))}, api.ErrForm},
 		{"a value", []proto.Field{one, two, msg(3, raw(1, '9'), raw(2))}, api.ErrNone}, {"a key", []proto.Field{one, two, msg(3, raw(1, '9'), val)}, api.ErrText}, {"a key twice", []proto.Field{one, two, msg(3, key, val, key, val)}, api.ErrTwice}, {"many attributes", []proto.Field{one, two, msg(3, slices.Repeat([]proto.Field{key, val}, 9)...)}, api.ErrMany}, {"a later face", []proto.Field{one, two, raw(3), raw(3, 0), raw(4, 0)}, api.ErrRange},

@@ -22,6 +22,9 @@ func square() []api.Point { return []api.Point{p(0, 0), p(8, 0), p(8, 8), p(0, 8
 func TestCheck(t *testing.T) {
 	hole := ring.Turned(square())
 	const r = Reach
+	if r != 1<<20 || Line != 2 || Polygon != 3 {
+		t.Error("numbers")
+	}
 	for _, x := range []struct {
 		name  string
 		kind  int
@@ -84,7 +87,7 @@ func TestRead(t *testing.T) {
 		{"end", Line, []uint64{9}, api.ErrEnd}, {"end", Line, []uint64{9, 0}, api.ErrEnd}, {"end", Line, []uint64{9, 0, 0}, api.ErrEnd}, {"end", Line, []uint64{9, 0, 0, 10}, api.ErrEnd}, {"end", Line, []uint64{9, 0, 0, 10, 2}, api.ErrEnd}, {"end", Polygon, []uint64{9, 0, 0, 18, 2, 0, 0, 2}, api.ErrEnd}, {"end", Line, []uint64{9, 0, 0, 10, 2, 2, 9}, api.ErrEnd}, {"far more points than numbers", Line, []uint64{9, 0, 0, great - 6, 1}, api.ErrEnd},
 		{"great", Line, []uint64{9, great}, api.ErrRange}, {"great", Line, []uint64{9, 0, great}, api.ErrRange}, {"great", Line, []uint64{9, 0, 0, great + 2}, api.ErrRange}, {"great", Line, []uint64{9, 0, 0, 10, math.MaxUint64}, api.ErrRange}, {"great", Polygon, []uint64{9, 0, 0, 18, 2, 0, 0, 2, great + 7}, api.ErrRange},
 		{"out", Line, []uint64{9, far + 2}, api.ErrRange}, {"out", Line, []uint64{9, far + 1, 0}, api.ErrRange}, {"out", Line, []uint64{9, far, far, 10, 2, 1}, api.ErrRange}, {"out", Line, []uint64{9, far, far, 10, 1, 2}, api.ErrRange}, {"the farthest", Line, []uint64{9, far, far, 10, 2*far - 1, 0}, api.OK},
-		{"not a line", Line, []uint64{9, 0, 0, 9}, api.ErrGeom}, {"close", Line, []uint64{9, 0, 0, 15}, api.ErrGeom}, {"a line by none", Line, []uint64{9, 0, 0, 2}, api.ErrGeom}, {"a line by one", Polygon, []uint64{9, 0, 0, 10}, api.ErrGeom}, {"a line by none", Polygon, []uint64{9, 0, 0, 2}, api.ErrGeom},
+		{"not a line", Line, []uint64{9, 0, 0, 9}, api.ErrGeom}, {"close", Line, []uint64{9, 0, 0, 15}, api.ErrGeom}, {"no command", Line, []uint64{9, 0, 0, 11, 2, 0}, api.ErrGeom}, {"a line by none", Line, []uint64{9, 0, 0, 2}, api.ErrGeom}, {"a line by one", Polygon, []uint64{9, 0, 0, 10}, api.ErrGeom}, {"a line by none", Polygon, []uint64{9, 0, 0, 2}, api.ErrGeom},
 		{"not closed", Polygon, []uint64{9, 0, 0, 18, 2, 0, 0, 2, 9}, api.ErrGeom}, {"closed otherwise", Polygon, []uint64{9, 0, 0, 18, 2, 0, 0, 2, 7}, api.ErrGeom}, {"closed", Line, []uint64{9, 0, 0, 10, 2, 0, 15}, api.ErrGeom},
 		{"like points", Line, []uint64{9, 0, 0, 10, 0, 0}, api.ErrGeom}, {"like points, and more behind", Line, []uint64{9, 0, 0, 10, 0, 0, great}, api.ErrGeom}, {"back to the first", Polygon, []uint64{9, 0, 0, 26, 2, 0, 0, 2, 1, 1, 15}, api.ErrGeom}, {"no area", Polygon, []uint64{9, 0, 0, 18, 2, 0, 2, 0, 15}, api.ErrGeom},
 		{"to the right", Polygon, []uint64{9, 0, 0, 18, 0, 2, 2, 0, 15}, api.ErrGeom}, {"to the right behind", Polygon, []uint64{9, 0, 0, 18, 2, 0, 0, 2, 15, 9, 0, 0, 18, 0, 2, 2, 0, 15}, api.OK}, {"no area behind", Polygon, []uint64{9, 0, 0, 18, 2, 0, 0, 2, 15, 9, 0, 0, 18, 0, 2, 0, 2, 15}, api.ErrGeom},

@@ -98,6 +98,10 @@ func TestEncode(t *testing.T) {
 	if want = write(msg(3, num(15, 2), raw(1, 'x'), msg(2, num(3, 2), raw(4, 9, 0, 0, 10, 2, 4)), num(5, 4096))); !bytes.Equal(got, want) {
 		t.Error("no ID, no tags", got)
 	}
+	got, _ = Encode(Tile{[]Layer{layer("x", Feature{1, 2, nil, line().Parts})}})
+	if want = write(msg(3, num(15, 2), raw(1, 'x'), msg(2, num(1, 1), num(3, 2), raw(4, 9, 0, 0, 10, 2, 4)), num(5, 4096))); !bytes.Equal(got, want) {
+		t.Error("the ID 1", got)
+	}
 }
 
 // TestDecode: P24.2, of tiles.

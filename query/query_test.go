@@ -54,7 +54,7 @@ func TestExample(t *testing.T) {
 		d, got int
 		err    api.Errno
 	}{
-		{p(5, 5), 1, 0, api.OK}, {p(5, 0), 1, cover.Border, api.OK}, {p(9, 9), 2, 0, api.OK}, {p(8000, 8000), 1, cover.None, api.OK}, {p(10001, 9), 2, cover.None, api.OK}, {p(10000, 9), 2, cover.Border, api.OK}, {p(9999, 9), 2, 0, api.OK}, {p(8192*64, 0), 64, cover.None, api.OK},
+		{p(5, 5), 1, 0, api.OK}, {p(5, 0), 1, cover.Border, api.OK}, {p(9, 9), 2, 0, api.OK}, {p(8000, 8000), 1, cover.None, api.OK}, {p(10001, 9), 2, cover.None, api.OK}, {p(10000, 9), 2, cover.Border, api.OK}, {p(9999, 9), 2, 0, api.OK}, {p(8192*64, 0), 64, cover.None, api.OK}, {p(0, 8192*64), 64, cover.None, api.OK}, {p(0, 0), 64, cover.Border, api.OK}, {p(0, 5), 1, cover.Border, api.OK}, {p(5, -1), 1, 0, api.ErrRange}, {p(8193, 5), 1, 0, api.ErrRange},
 		{p(5, 5), 0, 0, api.ErrRange}, {p(5, 5), 65, 0, api.ErrRange}, {p(5, 5), -1, 0, api.ErrRange}, {p(-1, 5), 1, 0, api.ErrRange}, {p(5, 8193), 1, 0, api.ErrRange}, {p(8192*64+1, 0), 64, 0, api.ErrRange}, {p(math.MaxInt, 0), 64, 0, api.ErrRange},
 	} {
 		if got, err := s.Locate(1, x.p, x.d); got != x.got || err != x.err {

@@ -39,6 +39,7 @@ func TestArcs(t *testing.T) {
 		{"of like ones the first", nil, 99, []arcs.Arc{arc(p(0, 0), p(0, 4), p(4, 4), p(4, 0)), arc(p(0, 0), p(4, 0))}, []arcs.Arc{arc(p(0, 0), p(4, 4), p(4, 0)), arc(p(0, 0), p(4, 0))}, 1, api.OK},
 		{"one waits till another goes", nil, 100, []arcs.Arc{arc(p(0, 0), p(4, 4), p(8, 0)), arc(p(2, -9), p(4, 1), p(6, -9), p(9, -9))}, []arcs.Arc{arc(p(0, 0), p(8, 0)), arc(p(2, -9), p(9, -9))}, 3, api.OK},
 		{"one waits, and grows too heavy", nil, 100, []arcs.Arc{arc(p(0, 0), p(5, 4), p(10, 0), p(33, -8)), arc(p(5, -60), p(5, 1), p(6, -60))}, []arcs.Arc{arc(p(0, 0), p(5, 4), p(33, -8)), arc(p(5, -60), p(6, -60))}, 2, api.OK},
+		{"one waits for another, and grows too heavy", nil, 99, []arcs.Arc{arc(p(0, 0), p(5, 4), p(10, 0), p(26, 1)), arc(p(5, -90), p(5, 1), p(6, -90))}, []arcs.Arc{arc(p(0, 0), p(5, 4), p(26, 1)), arc(p(5, -90), p(6, -90))}, 2, api.OK},
 		{"one waits longer", nil, 100, []arcs.Arc{arc(p(0, 0), p(5, 4), p(10, 0)), arc(p(50, 50), p(55, 55), p(60, 51)), arc(p(5, -60), p(5, 1), p(6, -60))}, []arcs.Arc{arc(p(0, 0), p(10, 0)), arc(p(50, 50), p(60, 51)), arc(p(5, -60), p(6, -60))}, 3, api.OK},
 		{"no points", nil, 9, []arcs.Arc{arc(), arc(p(1, 1)), arc(p(1, 1), p(2, 2))}, []arcs.Arc{arc(), arc(p(1, 1)), arc(p(1, 1), p(2, 2))}, 0, api.OK},
 		{"none", nil, 9, nil, nil, 0, api.OK}, {"below", nil, -1, []arcs.Arc{row}, nil, 0, api.ErrRange}, {"above", nil, api.MaxTol + 1, []arcs.Arc{row}, nil, 0, api.ErrRange},

@@ -86,8 +86,9 @@ func TestOf(t *testing.T) {
 		t.Error(got)
 	}
 	// A hole as great as its exterior, as far as the window shows them: nothing is left.
-	got, _ = Of([]face.Face{of(box(0, 0, 9000, 9000), hole(0, 0, 8500, 8500))}, nil, window.Tile{Z: 1}, 0)
-	if !Empty(got) {
+	around := []api.Point{p(0, 8500), p(8500, 8500), p(8500, 0), p(0, 0)}
+	got, err = Of([]face.Face{of(box(0, 0, 9000, 9000), around)}, nil, window.Tile{Z: 1}, 0)
+	if !Empty(got) || err != api.OK {
 		t.Error("all is hole", got)
 	}
 }
