@@ -303,3 +303,29 @@ func inner(u, v, low, high api.Point) bool {
 	x, y := u.X+v.X, u.Y+v.Y
 	return x > 2*low.X && x < 2*high.X && y > 2*low.Y && y < 2*high.Y
 }
+
+// TestCrossing: T1, of a coverage in which two exteriors and a hole of one face cross in the two points in which they touch: three bands between these, told otherwise than one by one.
+func TestCrossing(t *testing.T) {
+	low, high := p(30000, 2000), p(30000, 62000)
+	between := func(right, left int) []api.Point {
+		return []api.Point{low, p(right-900, 20000), p(right, 30000), p(right-800, 40000), high, p(left+700, 41000), p(left, 31000), p(left+1000, 21000)}
+	}
+	crossing := of(between(33000, 3000), between(53000, 23000), between(13000, 43000))
+	if ring.Area(crossing.Rings[2]) >= 0 || cover.Check(crossing) != api.OK {
+		t.Fatal(cover.Check(crossing))
+	}
+	for _, tol := range []int{0, 500, api.MaxTol} {
+		w, err := New(build.Input{Faces: []face.Face{crossing}, Buffer: 64, Tol: tol, Zooms: []int{0, 1, 2, 3, 4}})
+		if err != api.OK {
+			t.Fatal(err)
+		}
+		if s := w.Store(); s.Verify() != api.OK || s.Status(4) != level.Present {
+			t.Error(tol)
+		}
+		for x, want := range map[int]int{8000: 0, 18000: cover.None, 28000: 0, 38000: cover.None, 48000: 0} {
+			if got, err := w.Store().Locate(4, p(x, 30500), 1); got != want || err != api.OK {
+				t.Error(tol, x, got)
+			}
+		}
+	}
+}
