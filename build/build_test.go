@@ -66,9 +66,9 @@ func TestBuild(t *testing.T) {
 		in Input
 		b  []byte
 	}{
-		{Input{}, []byte{'G', 'R', 'T', 1, 4, 8, 0, 16, 0, 0, 0}}, {Input{Buffer: 5}, []byte{'G', 'R', 'T', 1, 4, 8, 5, 16, 0, 0, 0}},
-		{Input{Zooms: []int{2}}, []byte{'G', 'R', 'T', 1, 14, 8, 0, 16, 0, 34, 8, 8, 2, 16, 1, 26, 2, 0, 0, 0, 0}},
-		{Input{Faces: []face.Face{of(box(0, 0, 4, 4))}, Zooms: []int{0}}, []byte{'G', 'R', 'T', 1, 12, 8, 0, 16, 0, 26, 0, 34, 4, 8, 0, 16, 2, 0, 0}},
+		{Input{}, []byte{'G', 'R', 'T', '1', 4, 8, 0, 16, 0, 0, 0}}, {Input{Buffer: 5}, []byte{'G', 'R', 'T', '1', 4, 8, 5, 16, 0, 0, 0}},
+		{Input{Zooms: []int{2}}, []byte{'G', 'R', 'T', '1', 14, 8, 0, 16, 0, 34, 8, 8, 2, 16, 1, 26, 2, 0, 0, 0, 0}},
+		{Input{Faces: []face.Face{of(box(0, 0, 4, 4))}, Zooms: []int{0}}, []byte{'G', 'R', 'T', '1', 12, 8, 0, 16, 0, 26, 0, 34, 4, 8, 0, 16, 2, 0, 0}},
 	} {
 		got, err := Build(x.in)
 		if !bytes.Equal(got, x.b) || err != api.OK {

@@ -20,8 +20,8 @@ func same(a, b []Entry) bool {
 	return slices.EqualFunc(a, b, func(x, y Entry) bool { return x.Tile == y.Tile && bytes.Equal(x.Bytes, y.Bytes) })
 }
 
-// told is the magic, and behind it the bytes of numbers.
-func told(l ...uint64) []byte { return append([]byte("GRT\x01"), varint.Bytes(l...)...) }
+// told is the four signs, and behind them the bytes of numbers.
+func told(l ...uint64) []byte { return append([]byte{71, 82, 84, 49}, varint.Bytes(l...)...) }
 
 // TestWrite: P27.1.
 func TestWrite(t *testing.T) {
@@ -54,7 +54,7 @@ func TestOpen(t *testing.T) {
 		b    []byte
 		err  api.Errno
 	}{
-		{"nothing", nil, api.ErrMagic}, {"short", []byte("GRT"), api.ErrMagic}, {"another", []byte("GRT\x02\x00\x00\x00"), api.ErrMagic}, {"magic alone", told(), api.ErrEnd}, {"no blobs", told(0), api.ErrEnd}, {"no entries", told(0, 0), api.ErrEnd},
+		{"nothing", nil, api.ErrMagic}, {"short", []byte("GRT"), api.ErrMagic}, {"another", []byte("GRT2\x00\x00\x00"), api.ErrMagic}, {"small signs", []byte("grt1\x00\x00\x00"), api.ErrMagic}, {"a sign ahead", []byte(" GRT1\x00\x00\x00"), api.ErrMagic}, {"the number 1", []byte{71, 82, 84, 1, 0, 0, 0}, api.ErrMagic}, {"the signs alone", told(), api.ErrEnd}, {"no blobs", told(0), api.ErrEnd}, {"no entries", told(0, 0), api.ErrEnd},
 		{"a long 0", append(told(), 128, 0), api.ErrForm}, {"a great number", append(told(), bytes.Repeat([]byte{255}, 10)...), api.ErrRange}, {"a short head", told(3, 1, 1), api.ErrEnd}, {"a short head", told(9, 0, 0), api.ErrEnd}, {"a head that is told too great", told(math.MaxUint64), api.ErrEnd},
 		{"many blobs", told(0, 342), api.ErrMany}, {"many blobs", told(0, math.MaxUint64), api.ErrMany}, {"as many as may be", told(append([]uint64{0, 341}, blobs...)...), api.ErrEnd}, {"a short blob", told(0, 1, 2, 7), api.ErrEnd}, {"a blob twice", told(0, 3, 1, 7, 0, 1, 7), api.ErrTwice}, {"an empty blob twice", told(0, 2, 0, 0, 342), api.ErrTwice},
 		{"many entries", told(0, 0, 342), api.ErrMany}, {"no number", append(told(0, 0, 1), 129, 0), api.ErrForm}, {"an entry's end", told(0, 1, 0, 1, 0, 0), api.ErrEnd}, {"no tile", told(0, 1, 0, 1, 0, 0, 1), api.ErrRange}, {"no tile", told(0, 1, 0, 1, 5, 0, 0, 9), api.ErrRange}, {"no tile", told(0, 1, 0, 1, math.MaxUint64, 0, 0, 9), api.ErrRange}, {"no tile", told(0, 1, 0, 1, 4, 16, 0, 9), api.ErrRange},
@@ -63,6 +63,33 @@ func TestOpen(t *testing.T) {
 	} {
 		if p, err := Open(x.b); p != nil || err != x.err {
 			t.Error(x.name, p, err)
+		}
+	}
+}
+
+// TestSigns: P27.1 and P27.2, of the four signs that an archive begins with.
+func TestSigns(t *testing.T) {
+	b, err := Write(nil)
+	if string(b) != "GRT1\x00\x00\x00" || err != api.OK {
+		t.Error("nothing", b, err)
+	}
+	if p, err := Open(b); p == nil || err != api.OK {
+		t.Error("nothing isn't opened", err)
+	}
+	for place := range 4 {
+		for sign := range 256 {
+			other := bytes.Clone(b)
+			other[place] = byte(sign)
+			want := api.ErrMagic
+			if other[place] == b[place] {
+				want = api.OK
+			}
+			if p, err := Open(other); err != want || (p == nil) == (want == api.OK) {
+				t.Error(other, err)
+			}
+		}
+		if p, err := Open(b[:place]); p != nil || err != api.ErrMagic {
+			t.Error("short", place, err)
 		}
 	}
 }

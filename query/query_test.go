@@ -233,7 +233,7 @@ func TestOpen(t *testing.T) {
 		b           []byte
 		err, verify api.Errno
 	}{
-		{"right", b, api.OK, api.OK}, {"the same", write(same, entries), api.OK, api.OK}, {"nothing", nil, api.ErrMagic, 0}, {"cut off", b[:len(b)-1], api.ErrEnd, 0}, {"a head", bad, api.ErrEnd, 0},
+		{"right", b, api.OK, api.OK}, {"the same", write(same, entries), api.OK, api.OK}, {"nothing", nil, api.ErrMagic, 0}, {"by hand", []byte("GRT1\x04\x08\x00\x10\x00\x00\x00"), api.OK, api.OK}, {"no sign 1", []byte("GRT\x01\x04\x08\x00\x10\x00\x00\x00"), api.ErrMagic, 0}, {"cut off", b[:len(b)-1], api.ErrEnd, 0}, {"a head", bad, api.ErrEnd, 0},
 		{"a net", write(func(h *build.Head) { h.Levels[2].Net.Arcs[0].Left = 9 }, entries), api.ErrOrder, 0}, {"a net's faces", write(func(h *build.Head) { h.Levels[1].Net.Rings[3][0] = nil }, wrong), api.ErrForm, 0},
 		{"a collapsed level's tile", write(same, append([]pack.Entry{{Tile: first}}, wrong...)), api.ErrNone, 0}, {"another level's tile", write(same, append([]pack.Entry{{Tile: window.Tile{Z: 2}}}, entries...)), api.ErrNone, 0}, {"a tile's bytes", write(same, wrong), api.ErrNone, 0},
 		{"one less", write(same, entries[1:]), api.OK, api.ErrMatch}, {"none", write(same, nil), api.OK, api.ErrMatch}, {"changed for one another", write(same, swap), api.OK, api.ErrMatch}, {"one more", write(same, append([]pack.Entry{{Tile: window.Tile{Z: 3, X: 7, Y: 6}}}, entries...)), api.OK, api.ErrMatch},

@@ -64,7 +64,7 @@ func TestExamples(t *testing.T) {
 	if near := cover.Near(one, other); !slices.Equal(near[0], []int{cover.None, 1}) || !slices.Equal(near[1], []int{cover.None, 0}) {
 		t.Error("8")
 	}
-	if b, _ := build.Build(build.Input{}); !bytes.Equal(b, []byte{'G', 'R', 'T', 1, 4, 8, 0, 16, 0, 0, 0}) {
+	if b, _ := build.Build(build.Input{}); !bytes.Equal(b, []byte{'G', 'R', 'T', '1', 4, 8, 0, 16, 0, 0, 0}) {
 		t.Error("9", b)
 	}
 	archive, _ := pack.Open(w.Bytes())
